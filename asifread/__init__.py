@@ -1,0 +1,1 @@
+"""Asifread: a house of search whose every answer is as if all had been read."""

@@ -1,0 +1,36 @@
+"""The interface: names, arguments, and the files in which they are defined; and what of point [3] holds for all."""
+
+import importlib
+import inspect
+import unittest
+
+FUNCTIONS = {
+    "addresses": {
+        "is_name": "(thing)", "is_address": "(thing)", "house_of": "(address)", "linked": "(address, link)",
+    },
+    "pages": {"parsed": "(text)", "links_of": "(address, page)"},
+}
+CLASSES = {
+    "pages": ["Page"],
+}
+
+
+class InterfaceTest(unittest.TestCase):
+    def test_functions(self):
+        for file, functions in FUNCTIONS.items():
+            module = importlib.import_module("asifread." + file)
+            for name, arguments in functions.items():
+                with self.subTest(file=file, name=name):
+                    function = getattr(module, name)
+                    self.assertTrue(inspect.isfunction(function))
+                    self.assertEqual(function.__module__, "asifread." + file)
+                    self.assertEqual(str(inspect.signature(function)), arguments)
+
+    def test_classes(self):
+        for file, names in CLASSES.items():
+            module = importlib.import_module("asifread." + file)
+            for name in names:
+                with self.subTest(file=file, name=name):
+                    kind = getattr(module, name)
+                    self.assertTrue(inspect.isclass(kind))
+                    self.assertEqual(kind.__module__, "asifread." + file)
