@@ -53,8 +53,7 @@ def linked(address, link):
 
 
 def address_below(house, folder, rest):
-    """The address of the names in the rest, behind those of the folder, or None."""
-    # An empty rest has no names; splitting it would tell one empty name.
-    names = folder + rest.split("/") if rest else folder
+    """The address of the names in the rest, if any, behind those of the folder, or None."""
+    names = folder + [rest] if rest else folder
     found = house + "/" + "/".join(names)
     return found if is_address(found) else None

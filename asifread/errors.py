@@ -17,7 +17,7 @@ class NoText(AsIfError):
     """No text that is so written; `row` is the first row that is not."""
 
     def __init__(self, row):
-        super().__init__(f"no such text, row {row}")
+        super().__init__("no such text")
         self.row = row
 
 
@@ -29,7 +29,7 @@ class BadRow(AsIfError):
     """A row of numbers that tells nothing; `at` is the place where that shows."""
 
     def __init__(self, at):
-        super().__init__(f"no such row, place {at}")
+        super().__init__("no such row")
         self.at = at
 
 
@@ -49,7 +49,7 @@ class BadEntry(AsIfError):
     """An entry is wanted; `at` is the place of the first thing that is none."""
 
     def __init__(self, at):
-        super().__init__(f"no entry, place {at}")
+        super().__init__("no entry")
         self.at = at
 
 
@@ -73,7 +73,7 @@ class NotSure(AsIfError):
     """No seat can tell what is surely held; `shard` is where, None in a shard alone."""
 
     def __init__(self, shard):
-        super().__init__(f"not sure, shard {shard}")
+        super().__init__("not sure")
         self.shard = shard
 
 
@@ -93,5 +93,5 @@ class NoLog(AsIfError):
     """A log through which no house can be led; `at` is the first row of that kind."""
 
     def __init__(self, at):
-        super().__init__(f"no such log, row {at}")
+        super().__init__("no such log")
         self.at = at

@@ -18,14 +18,13 @@ class Page:
 def parsed(text):
     """The Page that the text tells."""
     rows = text.split("\n")
-    marks = [row for row in rows if row.startswith("!")]
     others = [row for row in rows if not row.startswith("!")]
     title = ""
     if others and others[0].startswith("# "):
         title = others[0][2:]
         others = others[1:]
     body, links = unlinked("\n".join(others))
-    return Page("!hide" in marks, "!quiet" in marks, title, body, links)
+    return Page("!hide" in rows, "!quiet" in rows, title, body, links)
 
 
 def unlinked(text):

@@ -9,9 +9,19 @@ FUNCTIONS = {
         "is_name": "(thing)", "is_address": "(thing)", "house_of": "(address)", "linked": "(address, link)",
     },
     "pages": {"parsed": "(text)", "links_of": "(address, page)"},
+    "words": {"tokens": "(text)", "root": "(text)", "is_word": "(thing)"},
+    "questions": {
+        "is_question": "(thing)", "words_asked": "(question)", "fits": "(address, page, question)",
+    },
+    "questiontexts": {"question_text": "(question)", "read_question": "(text)"},
+    "plain": {
+        "counted": "(book, *, struck=())", "joined": "(some)", "why": "(address, page, words, counts)",
+        "weight": "(row)", "best": "(book, question, k, *, struck=())",
+    },
 }
 CLASSES = {
     "pages": ["Page"],
+    "plain": ["Counts"],
 }
 
 

@@ -146,6 +146,14 @@ class ParsedTest(unittest.TestCase):
         self.told("[a][b](c)", body="[a]b", links=("c",))
         self.told("[a]()[b](c)", body="[a]()b", links=("c",))
 
+    def test_all_other_signs(self):
+        for code in [10] + list(range(32, 127)):
+            sign = chr(code)
+            in_words = sign not in "[]\n"
+            self.assertEqual(parsed(f"[a{sign}](d)").body == f"a{sign}", in_words)
+            self.assertEqual(parsed(f"[a](b{sign}c)").links == (f"b{sign}c",), sign not in " \n[]()")
+            self.assertEqual(parsed(f"[a]({sign})").links == (sign,), sign not in " \n[]()")
+
     def test_what_came_of_links_is_not_sought_again(self):
         self.told("[[a](b)](c)", body="[a](c)", links=("b",))
         self.told("[[](x)a](y)", body="[a](y)", links=("x",))
