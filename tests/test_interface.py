@@ -18,10 +18,26 @@ FUNCTIONS = {
         "counted": "(book, *, struck=())", "joined": "(some)", "why": "(address, page, words, counts)",
         "weight": "(row)", "best": "(book, question, k, *, struck=())",
     },
+    "places": {"placed": "(page, words)", "stands": "(page, words, told)"},
+    "spelling": {
+        "edited": "(word, edits)", "distance": "(one, other)", "edits_between": "(one, other)", "nearest": "(words, word)",
+    },
+    "coding": {"number_row": "(n)", "text_row": "(text)"},
+    "parts": {"part_of": "(row)", "poured": "(one, other, floor)"},
 }
+# For each class its methods; of those that no caller makes, none is told.
 CLASSES = {
-    "pages": ["Page"],
-    "plain": ["Counts"],
+    "pages": {"Page": {}},
+    "plain": {"Counts": {}},
+    "coding": {
+        "Taker": {"__init__": "(self, row)", "take_number": "(self)", "take_text": "(self)", "at_end": "(self)"},
+    },
+    "parts": {
+        "Part": {
+            "__init__": "(self, first, entries)", "__eq__": "(self, other)", "entry": "(self, number)",
+            "numbers": "(self, address)", "all_words": "(self)", "postings": "(self, word)", "numbers_told": "(self)",
+        },
+    },
 }
 
 
@@ -37,10 +53,13 @@ class InterfaceTest(unittest.TestCase):
                     self.assertEqual(str(inspect.signature(function)), arguments)
 
     def test_classes(self):
-        for file, names in CLASSES.items():
+        for file, classes in CLASSES.items():
             module = importlib.import_module("asifread." + file)
-            for name in names:
+            for name, methods in classes.items():
                 with self.subTest(file=file, name=name):
                     kind = getattr(module, name)
                     self.assertTrue(inspect.isclass(kind))
                     self.assertEqual(kind.__module__, "asifread." + file)
+                    for method, arguments in methods.items():
+                        # In the class itself, not in a base class.
+                        self.assertEqual(str(inspect.signature(vars(kind)[method])), arguments)

@@ -258,3 +258,33 @@ class LanguageTest(unittest.TestCase):
                     self.assertIsInstance(node.exc.func, ast.Name)
                     self.assertEqual(node.exc.keywords, [])
                     self.assertIsNone(node.cause)
+
+    def test_methods_and_attributes_of_a_class_have_unlike_names(self):
+        assigned = {
+            node.attr for name, whole in self.each() for node in ast.walk(whole)
+            if isinstance(node, ast.Attribute) and isinstance(node.ctx, ast.Store)
+        }
+        for name, whole in self.each():
+            for kind in ast.walk(whole):
+                if not isinstance(kind, ast.ClassDef):
+                    continue
+                methods = [node.name for node in kind.body if isinstance(node, ast.FunctionDef)]
+                self.assertEqual(len(methods), len(set(methods)))
+                for node in ast.walk(kind):
+                    if isinstance(node, ast.Attribute) and isinstance(node.ctx, ast.Store):
+                        self.assertNotIn(node.attr, methods)
+            for node in ast.walk(whole):
+                if isinstance(node, ast.Attribute) and isinstance(node.ctx, ast.Load):
+                    self.assertTrue(node.attr in assigned | own_methods() | ALLOWED_METHODS, node.attr)
+
+    def test_double_underscore_methods(self):
+        for name, whole in self.each():
+            for kind in ast.walk(whole):
+                for node in kind.body if isinstance(kind, ast.ClassDef) else []:
+                    if isinstance(node, ast.FunctionDef) and node.name.startswith("__"):
+                        self.assertIn(node.name, DOUBLE_METHODS)
+                    if isinstance(node, ast.FunctionDef) and node.name in ("__len__", "__eq__"):
+                        told = [part for part in node.body if not isinstance(part, ast.Expr)]
+                        self.assertEqual([part.__class__ for part in told], [ast.Return])
+                        if node.name == "__len__":
+                            self.assertEqual(told[0].value.func.id, "len")
