@@ -4,7 +4,7 @@ from asifread.addresses import check_address, house_of
 from asifread.errors import BadCount
 from asifread.kinds import is_between
 from asifread.pages import links_of, parsed
-from asifread.questions import fits, words_asked
+from asifread.questions import check_question, fits, words_asked
 from asifread.words import words_in
 
 MOST_HITS = 10
@@ -108,13 +108,30 @@ def weight(row):
 def best(book, question, k, *, struck=()):
     """The list of (address, worth, why) of the k worthiest shown pages that the question fits."""
     pages = shown_pages(book, struck)
-    words = words_asked(question)
+    check_asked(question, k)
+    return best_of(pages, question, k, counts_of(pages))
+
+
+def check_asked(question, k):
+    """Refuse what is no question, then a number of hits that isn't from 1 to 10."""
+    check_question(question)
     if not is_between(k, 1, MOST_HITS):
         raise BadCount("no count from 1 to 10")
-    counts = counts_of(pages)
-    hits = []
-    for address, page in pages:
-        if fits(address, page, question):
-            rows = why(address, page, words, counts)
-            hits.append((address, sum([weight(row) for row in rows]), rows))
-    return sorted(hits, key=lambda hit: (-hit[1], hit[0]))[:k]
+
+
+def best_of(pages, question, k, counts):
+    """The k worthiest hits by these counts, of pages that are all shown, told as (address, Page)."""
+    words = words_asked(question)
+    hits = [hit_of(address, page, words, counts) for address, page in pages if fits(address, page, question)]
+    return ranked(hits)[:k]
+
+
+def hit_of(address, page, words, counts):
+    """The page as a hit: (address, worth, why)."""
+    rows = why(address, page, words, counts)
+    return address, sum([weight(row) for row in rows]), rows
+
+
+def ranked(hits):
+    """These hits, the worthiest first, of like ones the lesser address."""
+    return sorted(hits, key=lambda hit: (-hit[1], hit[0]))

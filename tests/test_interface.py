@@ -24,6 +24,10 @@ FUNCTIONS = {
     },
     "coding": {"number_row": "(n)", "text_row": "(text)"},
     "parts": {"part_of": "(row)", "poured": "(one, other, floor)"},
+    "seeking": {
+        "sought": "(view, question, counts, k)", "bound": "(words, counts, address, found)",
+        "fair": "(view, question, counts, k, told)",
+    },
 }
 # For each class its methods; of those that no caller makes, none is told.
 CLASSES = {
@@ -36,6 +40,24 @@ CLASSES = {
         "Part": {
             "__init__": "(self, first, entries)", "__eq__": "(self, other)", "entry": "(self, number)",
             "numbers": "(self, address)", "all_words": "(self)", "postings": "(self, word)", "numbers_told": "(self)",
+        },
+    },
+    "disk": {
+        "Disk": {
+            "__init__": "(self)", "put": "(self, name, row)", "drop": "(self, name)", "names": "(self)",
+            "read": "(self, name)", "writes": "(self)", "cut": "(self, many)",
+        },
+    },
+    "shelves": {
+        "Shelf": {
+            "__init__": "(self, disk)", "__len__": "(self)", "give": "(self, entries)", "seal": "(self)",
+            "pour": "(self, at)", "trim": "(self, floor)", "moment": "(self)", "floor": "(self)", "parts": "(self)",
+            "view": "(self, moment, *, struck=())",
+        },
+    },
+    "views": {
+        "View": {
+            "book": "(self)", "counts": "(self)", "shown": "(self)", "page": "(self, address)", "found": "(self, word)",
         },
     },
 }

@@ -23,7 +23,8 @@ def told(part):
     words = part.all_words()
     entries = [part.entry(number) for number in range(part.first, part.end)]
     numbers = [part.numbers(address) for address in ADDRESSES]
-    return part.first, part.end, entries, numbers, [(word, part.postings(word)) for word in words], part.numbers_told()
+    postings = [(word, list(part.postings(word))) for word in words]
+    return part.first, part.end, entries, numbers, postings, list(part.numbers_told())
 
 
 def plain_postings(first, entries):
@@ -233,6 +234,8 @@ class ToldTest(unittest.TestCase):
             wrong = [-1, 256, 10 ** 100, row[at] + 256, None, True, False, float(row[at]), str(row[at]), (row[at],), [row[at]]]
             for number in wrong + [Strange(), b"a", {}] + DEEP:
                 self.assertFalse(self.is_fitting(row[:at] + [number] + row[at + 1:]))
+        self.assertTrue(self.is_fitting([128, 1, 1, 0]))
+        self.assertFalse(self.is_fitting([256, 1, 1, 0]))
 
     def test_of_anything(self):
         for thing in NO_TEXTS + DEEP + ["", "a", "part", bytes([0, 1, 0]), bytearray([0, 1, 0]), {0: 1}, range(3), iter([0, 1, 0])]:
