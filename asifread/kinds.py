@@ -1,5 +1,7 @@
 """Small helpers about signs, numbers and lists that several files of the package share."""
 
+from asifread.errors import BadCount
+
 SMALL = "abcdefghijklmnopqrstuvwxyz0123456789"
 LETTERS_AND_FIGURES = "abcdefghijklmnopqrstuvwxyzABCDEFGHIJKLMNOPQRSTUVWXYZ0123456789"
 # All signs that may stand in a page's text; the percent sign is none of them.
@@ -29,6 +31,12 @@ def is_between(thing, least, most):
     return is_number(thing) and least <= thing <= most
 
 
+def check_count(thing, least, most):
+    """Refuse what is no number from least to most."""
+    if not is_between(thing, least, most):
+        raise BadCount(f"no count from {least} to {most}")
+
+
 def is_list(thing):
     """Whether the thing is a list, or a tuple, which may stand for one."""
     return isinstance(thing, (list, tuple))
@@ -44,3 +52,12 @@ def is_just(thing, wanted):
         return False
     # Only what is wanted is gone through, so that a thing nested very deep is left early.
     return len(thing) == len(wanted) and all([is_just(part, other) for part, other in zip(thing, wanted)])
+
+
+def tupled(thing):
+    """The thing with tuples in the place of lists, and tuples of pairs in the place of dicts, within it, too."""
+    if isinstance(thing, dict):
+        return tuple([(key, tupled(thing[key])) for key in thing])
+    if is_list(thing):
+        return tuple([tupled(part) for part in thing])
+    return thing

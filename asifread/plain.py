@@ -1,13 +1,13 @@
 """What a page is worth, reckoned plainly by going through all pages of a book."""
 
 from asifread.addresses import check_address, house_of
-from asifread.errors import BadCount
-from asifread.kinds import is_between
+from asifread.kinds import check_count
 from asifread.pages import links_of, parsed
 from asifread.questions import check_question, fits, words_asked
 from asifread.words import words_in
 
 MOST_HITS = 10
+LONGEST_PREFIX = 35
 
 
 class Counts:
@@ -17,6 +17,11 @@ class Counts:
         self.pages = pages
         self.words = words
         self.links = links
+
+
+def is_prefix(thing):
+    """Whether the thing is a prefix: a text of 1 to 35 signs."""
+    return isinstance(thing, str) and 1 <= len(thing) <= LONGEST_PREFIX
 
 
 def counted(book, *, struck=()):
@@ -115,8 +120,7 @@ def best(book, question, k, *, struck=()):
 def check_asked(question, k):
     """Refuse what is no question, then a number of hits that isn't from 1 to 10."""
     check_question(question)
-    if not is_between(k, 1, MOST_HITS):
-        raise BadCount("no count from 1 to 10")
+    check_count(k, 1, MOST_HITS)
 
 
 def best_of(pages, question, k, counts):

@@ -112,3 +112,13 @@ def nearest(words, word):
             if far <= farthest:
                 near.append((far, -words[other], other))
     return min(near)[2] if near else None
+
+
+def nearest_of_each(words, asked):
+    """A dict from each asked word that is none of words to the nearest of them, if there is one."""
+    found = {}
+    for word in asked:
+        other = None if word in words else nearest(words, word)
+        if other is not None:
+            found[word] = other
+    return found

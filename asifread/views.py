@@ -8,7 +8,7 @@ class View:
 
     def __init__(self, parts, moment, struck):
         # A Part never changes, so later deeds of the shelf change nothing here.
-        self.held = list(parts)
+        self.parts_kept = list(parts)
         numbers, last = last_entries(parts, moment)
         standing = [last[address] for address in sorted(last) if last[address][1] is not None]
         self.looks = {address: (text, tick) for address, text, tick in standing}
@@ -36,7 +36,7 @@ class View:
         if not isinstance(word, str):
             return {}
         found = {}
-        for part in self.held:
+        for part in self.parts_kept:
             for number, in_body, in_title in part.postings(word):
                 # Other entries are elder than the last one, behind the moment, or struck.
                 if number in self.shown_at:

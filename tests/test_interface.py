@@ -28,6 +28,8 @@ FUNCTIONS = {
         "sought": "(view, question, counts, k)", "bound": "(words, counts, address, found)",
         "fair": "(view, question, counts, k, told)",
     },
+    "crawling": {"looked_all": "(frontier, world, tick)", "entries_of": "(tick, looks)"},
+    "house": {"home": "(address, shards)"},
 }
 # For each class its methods; of those that no caller makes, none is told.
 CLASSES = {
@@ -58,6 +60,30 @@ CLASSES = {
     "views": {
         "View": {
             "book": "(self)", "counts": "(self)", "shown": "(self)", "page": "(self, address)", "found": "(self, word)",
+        },
+    },
+    "shards": {
+        "Shard": {
+            "__init__": "(self, seats=3)", "offer": "(self, entry)", "fall": "(self, seat, *, undone=0)",
+            "rise": "(self, seat)", "late": "(self, seat)", "on_time": "(self, seat)", "seal": "(self, seat)",
+            "pour": "(self, seat, at)", "trim": "(self, seat)", "sure": "(self)", "moments": "(self)", "log": "(self)",
+            "view": "(self, *, struck=())",
+        },
+    },
+    "frontier": {
+        "Frontier": {
+            "__init__": "(self, seeds, *, gap=2, lanes=2, most=24)", "picks": "(self, tick)",
+            "looked": "(self, address, tick, links)", "known": "(self)", "bound": "(self)",
+        },
+    },
+    "house": {
+        "House": {
+            "__init__": "(self, seeds, *, shards=2, seats=3, gap=2, lanes=2, most=24)", "tick": "(self, world)",
+            "fall": "(self, shard, seat, *, undone=0)", "rise": "(self, shard, seat)", "late": "(self, shard, seat)",
+            "on_time": "(self, shard, seat)", "seal": "(self, shard, seat)", "trim": "(self, shard, seat)",
+            "pour": "(self, shard, seat, at)", "strike": "(self, prefix)", "free": "(self, prefix)",
+            "ask": "(self, text, *, k=5, dark=False)", "held": "(self)", "now": "(self)", "struck": "(self)",
+            "known": "(self)", "sure": "(self)", "deeds": "(self)", "log": "(self)",
         },
     },
 }

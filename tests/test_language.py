@@ -34,7 +34,7 @@ DOUBLE_METHODS = set("__init__ __eq__ __repr__ __str__ __len__ __enter__ __exit_
 FUNCTION_KINDS = (ast.FunctionDef, ast.Lambda)
 BARRED_NODES = (
     ast.AsyncFunctionDef, ast.AsyncFor, ast.AsyncWith, ast.Await, ast.Global, ast.Import, ast.Div, ast.MatMult,
-    ast.GeneratorExp, ast.Yield, ast.YieldFrom, ast.Try, ast.Match, ast.NamedExpr,
+    ast.GeneratorExp, ast.Yield, ast.YieldFrom, ast.Match, ast.NamedExpr,
 )
 
 
@@ -250,6 +250,47 @@ class LanguageTest(unittest.TestCase):
                     self.assertIsInstance(around, ast.Call, ast.dump(node))
                     self.assertIn(around.func.id, ["sorted", "len"])
 
+    def test_only_own_errors_are_caught(self):
+        own = {node.name for node in tree("errors.py").body if isinstance(node, ast.ClassDef)}
+        for name, whole in self.each():
+            for node in ast.walk(whole):
+                if isinstance(node, ast.Try):
+                    self.assertEqual((node.orelse, node.finalbody), ([], []))
+                    for handler in node.handlers:
+                        self.assertIsInstance(handler.type, ast.Name)
+                        self.assertIn(handler.type.id, own)
+                    # `.__class__.__name__` is the only thing that is asked of a caught error.
+                    caught = {handler.name for handler in node.handlers} - {None}
+                    read = [part for part in ast.walk(node) if isinstance(part, ast.Name) and part.id in caught]
+                    asked = [
+                        part for part in ast.walk(node)
+                        if isinstance(part, ast.Attribute) and part.attr == "__class__" and part.value in read
+                    ]
+                    self.assertEqual(len(read), len(asked))
+
+    def test_class_names(self):
+        for name, whole in self.each():
+            parents = {part: node for node in ast.walk(whole) for part in ast.iter_child_nodes(node)}
+            for node in ast.walk(whole):
+                if isinstance(node, ast.Attribute) and node.attr.startswith("__"):
+                    if node.attr == "__class__":
+                        self.assertIsInstance(node.value, ast.Name)
+                        self.assertEqual(parents[node].attr, "__name__")
+                    elif node.attr == "__name__":
+                        self.assertEqual(node.value.attr, "__class__")
+                    else:
+                        self.assertEqual(node.attr, "__init__")
+
+    def test_with_goes_over_attributes_of_own_classes(self):
+        for name, whole in self.each():
+            for node in ast.walk(whole):
+                if isinstance(node, ast.With):
+                    for item in node.items:
+                        self.assertIsInstance(item.context_expr, ast.Attribute)
+                        self.assertIsNone(item.optional_vars)
+                if isinstance(node, ast.FunctionDef) and node.name == "__exit__":
+                    self.assertTrue(all(isinstance(part, ast.AugAssign) for part in node.body))
+
     def test_errors_are_made_where_they_are_raised(self):
         for name, whole in self.each():
             for node in ast.walk(whole):
@@ -275,7 +316,8 @@ class LanguageTest(unittest.TestCase):
                         self.assertNotIn(node.attr, methods)
             for node in ast.walk(whole):
                 if isinstance(node, ast.Attribute) and isinstance(node.ctx, ast.Load):
-                    self.assertTrue(node.attr in assigned | own_methods() | ALLOWED_METHODS, node.attr)
+                    told = assigned | own_methods() | ALLOWED_METHODS | {"__class__", "__name__"}
+                    self.assertTrue(node.attr in told, node.attr)
 
     def test_double_underscore_methods(self):
         for name, whole in self.each():
