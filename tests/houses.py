@@ -1,6 +1,6 @@
 """A plain house that reckons by going through all pages held; and worlds, deeds and questions of chance."""
 
-from asifread.errors import AsIfError, NoFall, NoPart, NoPrefix, NoSeat, NoShard, NoText, NotSure
+from asifread.errors import AsIfError, BadCount, NoFall, NoPart, NoPrefix, NoSeat, NoShard, NotSure
 from asifread.pages import links_of, parsed
 from asifread.places import placed
 from asifread.questions import words_asked
@@ -99,6 +99,8 @@ class PlainHouse:
 
     def ask(self, text, k=5, dark=False):
         question = read_question(text)
+        if isinstance(k, bool) or not isinstance(k, int) or not 1 <= k <= 10:
+            raise BadCount("")
         left_out = self.dark()
         if left_out and not dark:
             raise NotSure(left_out[0])
@@ -181,7 +183,7 @@ def some_deed(chance, house, plain, world):
             arguments = [chance.choice(plain.struck)]
     elif kind == "ask":
         arguments = [chance.choice(ASKED if chance.randrange(12) else NO_QUESTION_TEXTS)]
-        by_name = {"k": chance.randrange(1, 11), "dark": chance.choice((True, False))}
+        by_name = {"k": chance.randrange(12), "dark": chance.choice((True, False))}
     elif kind == "pour":
         arguments.append(chance.randrange(3))
     elif kind == "fall":

@@ -129,5 +129,9 @@ class EntriesOfTest(unittest.TestCase):
         self.assertEqual(entries_of(1, ()), [])
         self.assertEqual(entries_of(1, [("c/", ("silent",))]), [])
 
+    def test_by_the_kind_of_the_answer_alone(self):
+        looks = [("a/", ("page", "silent")), ("b/", ("moved", "silent")), ("c/", ("page", "gone")), ("d/", ("moved", "page"))]
+        self.assertEqual(entries_of(3, looks), [("a/", "silent", 3), ("b/", None, 3), ("c/", "gone", 3), ("d/", None, 3)])
+
     def test_in_order(self):
         self.assertEqual(entries_of(0, [("b/", ("gone",)), ("a/", ("gone",))]), [("b/", None, 0), ("a/", None, 0)])

@@ -30,6 +30,9 @@ FUNCTIONS = {
     },
     "crawling": {"looked_all": "(frontier, world, tick)", "entries_of": "(tick, looks)"},
     "house": {"home": "(address, shards)"},
+    "judge": {"judged": "(log)", "again": "(log)"},
+    "things": {"thing_text": "(thing)", "read_thing": "(text)"},
+    "logtexts": {"log_text": "(log)", "read_log": "(text)"},
 }
 # For each class its methods; of those that no caller makes, none is told.
 CLASSES = {
@@ -86,6 +89,7 @@ CLASSES = {
             "known": "(self)", "sure": "(self)", "deeds": "(self)", "log": "(self)",
         },
     },
+    "desk": {"Desk": {"__init__": "(self)", "answer": "(self, row)"}},
 }
 
 

@@ -141,6 +141,26 @@ class LanguageTest(unittest.TestCase):
                     bound.append(node.name)
             self.assertEqual(len(bound), len(set(bound)))
 
+    def test_lists_and_dicts_at_module_level_are_only_read(self):
+        made = {
+            node.targets[0].id for name, whole in self.each() for node in whole.body
+            if isinstance(node, ast.Assign) and isinstance(node.value, (ast.List, ast.Dict))
+        }
+        self.assertIn("LENGTHS", made)
+        for name, whole in self.each():
+            parents = {part: node for node in ast.walk(whole) for part in ast.iter_child_nodes(node)}
+            for node in ast.walk(whole):
+                if isinstance(node, ast.Name) and isinstance(node.ctx, ast.Load) and node.id in made:
+                    around = parents[node]
+                    if isinstance(around, ast.Attribute):
+                        self.assertEqual(around.attr, "get")
+                    elif isinstance(around, ast.Compare):
+                        self.assertIsInstance(around.ops[0], (ast.In, ast.NotIn))
+                        self.assertIsNot(around.left, node)
+                    else:
+                        self.assertIsInstance(around, ast.Subscript, node.id)
+                        self.assertIsInstance(around.ctx, ast.Load)
+
     def test_imports_name_the_defining_file(self):
         leads = {}
         for name, whole in self.each():
@@ -305,6 +325,7 @@ class LanguageTest(unittest.TestCase):
             node.attr for name, whole in self.each() for node in ast.walk(whole)
             if isinstance(node, ast.Attribute) and isinstance(node.ctx, ast.Store)
         }
+        read = assigned | own_methods() | ALLOWED_METHODS | {"__class__", "__name__"}
         for name, whole in self.each():
             for kind in ast.walk(whole):
                 if not isinstance(kind, ast.ClassDef):
@@ -316,8 +337,9 @@ class LanguageTest(unittest.TestCase):
                         self.assertNotIn(node.attr, methods)
             for node in ast.walk(whole):
                 if isinstance(node, ast.Attribute) and isinstance(node.ctx, ast.Load):
-                    told = assigned | own_methods() | ALLOWED_METHODS | {"__class__", "__name__"}
-                    self.assertTrue(node.attr in told, node.attr)
+                    self.assertIn(node.attr, read)
+        # L18 allows some names that are both, in unlike classes; there is none.
+        self.assertEqual(assigned & own_methods(), set())
 
     def test_double_underscore_methods(self):
         for name, whole in self.each():

@@ -3,9 +3,12 @@
 import copy
 import random
 import unittest
+from unittest import mock
 
+from asifread import shards
 from asifread.errors import BadCount, BadEntry, NoFall, NoPart, NoSeat, NotSure
 from asifread.shards import Shard
+from asifread.shelves import Shelf
 from asifread.views import View
 from others import DEEP, NO_TEXTS, Strange
 from test_addresses import NO_ADDRESSES
@@ -59,7 +62,7 @@ class PlainShard:
         here = self.seats[seat]
         if not here.up:
             return NoSeat
-        if undone not in (0, 1, 2) or undone and here.ahead is None:
+        if type(undone) is not int or undone not in (0, 1, 2) or undone and here.ahead is None:
             return NoFall
         if undone == 2:
             here.ends = here.ahead
@@ -582,6 +585,106 @@ class FallTest(unittest.TestCase):
             self.shard.seal(0)
         with self.assertRaises(TypeError):
             self.shard.fall(0, 1)
+
+
+class SpiedShelf(Shelf):
+    """A Shelf that tells how many entries it was given at once."""
+
+    made = []
+
+    def __init__(self, disk):
+        super().__init__(disk)
+        self.gives = []
+        SpiedShelf.made.append(self)
+
+    def give(self, entries):
+        super().give(entries)
+        self.gives.append(len(entries))
+
+
+class ShelvesOfSeatsTest(unittest.TestCase):
+    """What can't be seen from without: how the Shelf of a seat is given entries, trimmed, and opened anew."""
+
+    def setUp(self):
+        SpiedShelf.made.clear()
+        spy = mock.patch.object(shards, "Shelf", SpiedShelf)
+        spy.start()
+        self.addCleanup(spy.stop)
+
+    def test_at_most_nine_a_give(self):
+        for many, gives in [(1, [1]), (8, [8]), (9, [9]), (10, [9, 1]), (18, [9, 9]), (20, [9, 9, 2])]:
+            SpiedShelf.made.clear()
+            shard = Shard(2)
+            shard.late(0)
+            shard.fall(1)
+            for entry in entries(many):
+                shard.offer(entry)
+            shard.on_time(0)
+            shard.rise(1)
+            self.assertEqual([shelf.gives for shelf in SpiedShelf.made], [gives, [], gives])
+
+    def test_offers(self):
+        shard = Shard(1)
+        for entry in entries(3):
+            shard.offer(entry)
+        self.assertEqual(SpiedShelf.made[0].gives, [1, 1, 1])
+
+    def test_trim(self):
+        shard = Shard(3)
+        shard.offer(A1)
+        shard.late(2)
+        for entry in [A2, A3]:
+            shard.offer(entry)
+        shard.late(1)
+        shard.offer(B1)
+        self.assertEqual((shard.sure(), shard.moments()), (3, [4, 3, 1]))
+        for seat in range(3):
+            shard.trim(seat)
+        # The lesser of what is surely held and what the seat has.
+        self.assertEqual([shelf.floor() for shelf in SpiedShelf.made], [3, 3, 1])
+        shard.seal(0)
+        shard.fall(0)
+        shard.rise(0)
+        opened = SpiedShelf.made[3]
+        self.assertEqual((opened.floor(), opened.parts(), opened.moment(), opened.gives), (3, [(0, 4)], 4, []))
+
+    def test_what_is_let_go(self):
+        shard = Shard(1)
+        for entry in [A1, A2, A3]:
+            shard.offer(entry)
+            shard.seal(0)
+        shard.trim(0)
+        shard.pour(0, 0)
+        shard.pour(0, 0)
+        self.assertEqual(len(SpiedShelf.made[0]), 1)
+
+    def test_what_is_undone(self):
+        for kind in ("seal", "pour"):
+            for undone in (0, 1, 2):
+                SpiedShelf.made.clear()
+                shard = Shard(1)
+                for entry in [A1, A2]:
+                    shard.offer(entry)
+                    if kind == "pour":
+                        shard.seal(0)
+                disk = SpiedShelf.made[0].disk
+                writes = disk.writes()
+                if kind == "seal":
+                    shard.seal(0)
+                else:
+                    shard.pour(0, 0)
+                self.assertGreater(disk.writes(), writes + 1)
+                wanted = disk.cut([disk.writes(), writes + 1, writes][undone])
+                shard.fall(0, undone=undone)
+                shard.rise(0)
+                opened = SpiedShelf.made[-1].disk
+                self.assertEqual((opened.writes(), opened.names()), (wanted.writes(), wanted.names()))
+
+    def test_each_seat_has_a_disk_of_its_own(self):
+        shard = Shard(3)
+        shard.offer(A1)
+        shard.seal(1)
+        self.assertEqual([shelf.parts() for shelf in SpiedShelf.made], [[], [(0, 1)], []])
 
 
 class ChanceTest(unittest.TestCase):
